@@ -1,0 +1,1 @@
+"""Clausehold: a solver of clauses whose answers come with papers."""

@@ -1,0 +1,48 @@
+"""The interface at the document's end: names, parameter names, and the file in which each thing is defined."""
+
+import importlib
+import inspect
+import unittest
+
+FUNCTIONS = {
+    "clauses": ("is_clause(value, n)", "clause_of(literals)", "agrees(literals, model)"),
+    "formulas": ("joined(one, other)", "read_formula(text)"),
+}
+
+METHODS = {
+    ("formulas", "Formula"): (
+        "__init__(self, n, clauses)", "__eq__(self, other)", "__len__(self)", "__str__(self)",
+        "with_clause(self, clause)", "without(self, place)", "only(self, places)", "under(self, literals)",
+    ),
+}
+
+
+def module(name):
+    return importlib.import_module("clausehold." + name)
+
+
+class TestInterface(unittest.TestCase):
+    def test_functions_stand_in_their_files(self):
+        for name, told in FUNCTIONS.items():
+            for line in told:
+                function = getattr(module(name), line.split("(")[0])
+                self.assertTrue(inspect.isfunction(function))
+                self.assertEqual(function.__module__, "clausehold." + name)
+                self.assertEqual(function.__name__ + str(inspect.signature(function)), line)
+
+    def test_methods_stand_in_their_classes_themselves(self):
+        for (name, kind), told in METHODS.items():
+            found = getattr(module(name), kind)
+            self.assertEqual(found.__module__, "clausehold." + name)
+            for line in told:
+                method = vars(found)[line.split("(")[0]]
+                self.assertEqual(method.__name__ + str(inspect.signature(method)), line)
+
+    def test_error_classes_stand_in_errors(self):
+        for found in vars(module("errors")).values():
+            if isinstance(found, type):
+                self.assertEqual(found.__module__, "clausehold.errors")
+
+
+if __name__ == "__main__":
+    unittest.main()
