@@ -28,5 +28,7 @@ def clause_of(literals):
 
 def agrees(literals, model):
     """Whether all of literals are in model."""
-    there = {literal: True for literal in model}
-    return all([literal in there for literal in literals])
+    for literal in literals:
+        if literal not in model:
+            return False
+    return True

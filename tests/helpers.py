@@ -94,3 +94,90 @@ def true_for_one(value):
                 yield value[:at] + (other,) + value[at + 1:]
     elif value.__class__ is int and value == 1:
         yield True
+
+
+def slowly_forced(clauses, literals):
+    """The literals that are true in the end, one clause being taken at a time, or None: as the document tells it."""
+    true = set(literals)
+    while True:
+        for clause in clauses:
+            left = [x for x in clause if -x not in true]
+            if not left:
+                return None
+            if len(left) == 1 and left[0] not in true:
+                true.add(left[0])
+                break
+        else:
+            return true
+
+
+def slowly_refutes(formula, steps):
+    """Whether a tuple of well-formed steps is a refutation, told as the document tells it."""
+    row = list(formula.clauses)
+    for word, clause in steps:
+        if word == "add":
+            if slowly_forced(row, [-x for x in clause]) is not None:
+                return False
+            row.append(clause)
+        else:
+            if clause not in row:
+                return False
+            row.remove(clause)
+    return bool(steps) and steps[-1] == ("add", ())
+
+
+def counter_clauses(literals, k, fresh):
+    """Clauses as in point [27], with new variables from fresh on, that let at most k of the literals be true."""
+    m = len(literals)
+
+    def s(i, j):
+        return fresh + (i - 1) * k + (j - 1)
+
+    rows = [(-literals[0], s(1, 1))] + [(-s(1, j),) for j in range(2, k + 1)]
+    for i in range(2, m):
+        x = literals[i - 1]
+        rows += [(-x, s(i, 1)), (-s(i - 1, 1), s(i, 1))]
+        for j in range(2, k + 1):
+            rows += [(-x, -s(i - 1, j - 1), s(i, j)), (-s(i - 1, j), s(i, j))]
+        rows.append((-x, -s(i - 1, k)))
+    rows.append((-literals[-1], -s(m - 1, k)))
+    return [tuple(sorted(row, key=abs)) for row in rows], fresh + (m - 1) * k
+
+
+def counted_formula(n, least, most):
+    """A formula that is open just if a number is from least to most, over n variables and new ones."""
+    variables = list(range(1, n + 1))
+    upper, fresh = counter_clauses(variables, most, n + 1)
+    lower, behind = counter_clauses([-v for v in variables], n - least, fresh)
+    return Formula(behind - 1, upper + lower)
+
+
+def parity_formula(n, bits):
+    """A formula whose models leave each of bits where their true literals are counted by 2."""
+    rows = product((0, 1), repeat=n)
+    return Formula(n, [tuple(-v if one else v for v, one in enumerate(row, 1))
+                       for row in rows for bit in bits if sum(row) % 2 != bit])
+
+
+def first_clauses(turning, fresh):
+    """Clauses as in point [32]: the row of values is not after the turned one."""
+    rows = []
+    n = len(turning)
+    for v in range(1, n + 1):
+        ahead = [-(fresh + v - 2)] if v > 1 else []
+        y = turning[v - 1]
+        rows.append(ahead + [v, -y])
+        if v < n:
+            rows += [ahead + [-v, -y, fresh + v - 1], ahead + [v, y, fresh + v - 1]]
+    kept = [set(row) for row in rows if not any(-x in row for x in row)]
+    return [tuple(sorted(row, key=abs)) for row in kept], fresh + max(n - 1, 0)
+
+
+def broken_formula(formula, turnings):
+    """The formula with the clauses of each turning behind it, with new variables."""
+    clauses = list(formula.clauses)
+    fresh = formula.n + 1
+    for turning in turnings:
+        more, fresh = first_clauses(turning, fresh)
+        clauses += more
+    return Formula(fresh - 1, clauses)

@@ -45,7 +45,7 @@ class TestExamples(unittest.TestCase):
         self.assertGreaterEqual(len(list(examples())), EXAMPLES)
 
 
-EXAMPLES = 15
+EXAMPLES = 24
 
 
 if __name__ == "__main__":

@@ -7,6 +7,12 @@ import unittest
 FUNCTIONS = {
     "clauses": ("is_clause(value, n)", "clause_of(literals)", "agrees(literals, model)"),
     "formulas": ("joined(one, other)", "read_formula(text)"),
+    "models": ("is_model(formula, value)", "models(formula)", "first_model(formula)"),
+    "forcing": ("forced(formula, literals)",),
+    "solving": ("is_open(formula)", "open_claim(formula, literals)", "open_paper(formula, literals)",
+                "open_holds(formula, claim, paper)"),
+    "reasons": ("reasons(formula, literals)", "reasons_paper(formula, literals)",
+                "reasons_holds(formula, claim, paper)"),
 }
 
 METHODS = {
