@@ -23,6 +23,31 @@ class Case(unittest.TestCase):
         """Both are equal, and of equal kinds throughout."""
         self.assertEqual(repr(one), repr(other))
 
+    def assertHolds(self, holds, formula, claim, paper):
+        self.assertIs(holds(formula, claim, paper), True, (claim, paper))
+
+    def assertNot(self, holds, formula, claim, paper):
+        self.assertIs(holds(formula, claim, paper), False, (claim, paper))
+
+    def assertLooksClosely(self, holds, formula, claim, paper):
+        """The paper holds; nothing holds where a part of it or of the claim is of a kind that has no place there."""
+        self.assertHolds(holds, formula, claim, paper)
+        for other in list(listed_anywhere(paper)) + list(true_for_one(paper)):
+            self.assertNot(holds, formula, claim, other)
+        for other in list(listed_anywhere(claim)) + list(true_for_one(claim)):
+            self.assertNot(holds, formula, other, paper)
+        for put in NO_PARTS:
+            for other in changed_anywhere(paper, put):
+                self.assertNot(holds, formula, claim, other)
+            for other in changed_anywhere(claim, put):
+                self.assertNot(holds, formula, other, paper)
+        for odd in ODD_VALUES + (nested(30), nested(30, list), nested(29) + (1,)):
+            self.assertNot(holds, formula, odd, odd)
+            if repr(odd) != repr(claim):
+                self.assertNot(holds, formula, odd, paper)
+            if repr(odd) != repr(paper):
+                self.assertNot(holds, formula, claim, odd)
+
 
 def tried_models(formula):
     """All models, found by trying all rows of values, in the order of the document."""
@@ -58,7 +83,21 @@ ODD_VALUES = (
     ["open", ()], ("open", []), ("open", None), ("open", "1"), ("reasons", (), ()), ("reasons", ()), ("reasons", [], []),
     (True, ()), ((("add", ()),), ()), ((("add", ()),), []), [(("add", ()),), ()], ((("add", ()),), (), ()),
     ((("add", ()),), (True,)), ("shut", (0,)), ("shut", (True,)), ("open", (2, 1)), ("open", (1, -1)),
+    ("fixed",), ("fixed", (), ()), ("fixed", []), ["fixed", ()], ("fixed", None), ("fixed", (0,)), ("fixed", "1"),
+    ("alike", 1), ("alike", 1, 1), ("alike", 1, -1), ("unlike", 1, -1), ("alike", 1, 2, 3), ("unlike", 0, 1),
+    ("alike", True, 2), ("alike", (1,), (2,)), ("core",), ("core", [0]), ("core", 0), ("core", (-1,)), ("core", (0, 0)),
+    ("release", (True,)), ("release", None), ("release", (), ()), ("cores", ()), ("cores", (), (), ()), ("cores", 1, 2),
+    ("cores", ((0,),), [()]), ("cores", [], ((),)), ("count",), ("count", True), ("count", -1), ("count", "1"),
+    ("count", None), ("count", (1,)), ("count of", (), True), ("count of", (1,)), ("count of", [1], 2), ("free",),
+    ("count of", (2, 1), 1), ("count of", (0,), 1), ("free", ()), ("shut",), ("split", 1), ("split", 1, ("free",)),
+    ("parts",), ("parts", ()), ("parts", (("free",),)), ("least", ()), ("least", (), -1), ("least", [], 0),
+    ("least", (((), 0),), 0), ("least", ((1, 1),), 1), ("least", (), True), ("left",), ("left", [], ()), ("left", [()]),
+    ("left", ((True,),)), ("left", 1), (((), 0, 1),), ((), 0, 1), (((), 0),), (((), -1, 0),), (((), True, False),),
 )
+
+
+# Values that are right nowhere in a claim or a paper of a small formula.
+NO_PARTS = (None, False, True, [], "", "word", Formula(1, ()), 99, -99, 10 ** 14, (("x",),), {}, 1.0)
 
 
 def nested(deep, kind=tuple):
@@ -181,3 +220,48 @@ def broken_formula(formula, turnings):
         more, fresh = first_clauses(turning, fresh)
         clauses += more
     return Formula(fresh - 1, clauses)
+
+
+def slowly_follows(clauses, clause):
+    """Whether the clause follows at once."""
+    return slowly_forced(clauses, [-x for x in clause]) is None
+
+
+def shut_formulas(seed, many):
+    """So many random formulas that are shut: every other one with clauses of two or three literals alone."""
+    rng = random.Random(seed)
+    easy = random_formulas(seed, many * 50, 4, 14, 3)
+    for number in range(many):
+        formula = next(easy)
+        while tried_models(formula):
+            formula = next(easy)
+        if number % 2:
+            formula = Formula(0, ())
+            while tried_models(formula):
+                n = rng.randint(2, 4)
+                clauses = [random_clause(rng, n, 3) for _ in range(rng.randint(6, 40))]
+                formula = Formula(n, [clause for clause in clauses if len(clause) > 1])
+        yield formula
+
+
+def random_steps(rng, formula, drops=True):
+    """A refutation of a shut formula that goes a crooked way: with adds that are not needed, that come twice, that add
+    the empty clause ahead, and with drops."""
+    row = list(formula.clauses)
+    steps = []
+    while not steps or steps[-1] != ("add", ()) or rng.random() < 0.3:
+        clause = random_clause(rng, formula.n, 3) if rng.random() < 0.8 else ()
+        if slowly_follows(row, clause):
+            steps.append(("add", clause))
+            row.append(clause)
+            if rng.random() < 0.2:
+                steps.append(("add", clause))
+                row.append(clause)
+        if drops and row and rng.random() < 0.2:
+            gone = rng.choice(row)
+            fewer = list(row)
+            fewer.remove(gone)
+            if not tried_models(Formula(formula.n, fewer)):
+                steps.append(("drop", gone))
+                row = fewer
+    return tuple(steps)

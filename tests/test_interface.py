@@ -13,6 +13,12 @@ FUNCTIONS = {
                 "open_holds(formula, claim, paper)"),
     "reasons": ("reasons(formula, literals)", "reasons_paper(formula, literals)",
                 "reasons_holds(formula, claim, paper)"),
+    "resolutions": ("trimmed(formula, steps)", "resolution(formula, steps)", "resolution_holds(formula, rows)"),
+    "fixed": ("fixed(formula)", "fixed_claim(formula)", "fixed_paper(formula)", "fixed_holds(formula, claim, paper)",
+              "alike_claim(formula, a, b)", "alike_paper(formula, a, b)", "alike_holds(formula, claim, paper)",
+              "alike_groups(formula)"),
+    "cores": ("cores(formula)", "releases(formula)", "cores_claim(formula)", "cores_paper(formula)",
+              "core_paper(formula, places)", "release_paper(formula, places)", "cores_holds(formula, claim, paper)"),
 }
 
 METHODS = {
