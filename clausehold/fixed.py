@@ -39,7 +39,7 @@ def sought(formula):
         return refutations, []
     found = [model]
     for literal in model:
-        if any([-literal in other for other in found]):
+        if any([-literal in seen for seen in found]):
             continue
         other, refutation = searched(formula.under((-literal,)))
         if other is None:

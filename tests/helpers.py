@@ -29,14 +29,14 @@ class Case(unittest.TestCase):
     def assertNot(self, holds, formula, claim, paper):
         self.assertIs(holds(formula, claim, paper), False, (claim, paper))
 
-    def assertLooksClosely(self, holds, formula, claim, paper):
+    def assertLooksClosely(self, holds, formula, claim, paper, no_parts=None):
         """The paper holds; nothing holds where a part of it or of the claim is of a kind that has no place there."""
         self.assertHolds(holds, formula, claim, paper)
         for other in list(listed_anywhere(paper)) + list(true_for_one(paper)):
             self.assertNot(holds, formula, claim, other)
         for other in list(listed_anywhere(claim)) + list(true_for_one(claim)):
             self.assertNot(holds, formula, other, paper)
-        for put in NO_PARTS:
+        for put in no_parts or NO_PARTS:
             for other in changed_anywhere(paper, put):
                 self.assertNot(holds, formula, claim, other)
             for other in changed_anywhere(claim, put):

@@ -19,6 +19,15 @@ FUNCTIONS = {
               "alike_groups(formula)"),
     "cores": ("cores(formula)", "releases(formula)", "cores_claim(formula)", "cores_paper(formula)",
               "core_paper(formula, places)", "release_paper(formula, places)", "cores_holds(formula, claim, paper)"),
+    "counting": ("count(formula)", "count_of(formula, variables)", "count_claim(formula)", "count_paper(formula)",
+                 "count_holds(formula, claim, paper)", "count_of_claim(formula, variables)",
+                 "count_of_paper(formula, variables)", "count_of_holds(formula, claim, paper)"),
+    "wishes": ("least_loss(formula, wishes)", "best_models(formula, wishes)", "least_claim(formula, wishes)",
+               "least_paper(formula, wishes)", "least_holds(formula, claim, paper)"),
+    "taking": ("taken(formula, step)", "steps_open(formula)", "taken_all(formula, steps)",
+               "brought_back(formula, steps, model)", "simplified(formula)", "left_holds(formula, claim, paper)"),
+    "written": ("parity_clauses(literals, bit)", "at_most_clauses(literals, k, fresh)",
+                "at_least_clauses(literals, k, fresh)"),
 }
 
 METHODS = {

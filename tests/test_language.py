@@ -133,6 +133,15 @@ class TestLanguage(unittest.TestCase):
                 if isinstance(node, ast.Name) and isinstance(node.ctx, ast.Load) and node.id in BUILTINS:
                     self.assertIn(node.id, ALLOWED, where)
 
+    def test_no_local_name_is_that_of_an_import_or_of_something_of_its_file(self):
+        for name, tree in trees():
+            there = {word for node in tree.body if not isinstance(node, ast.ImportFrom) for word in bound(node)}
+            there |= {alias.name for node in tree.body if isinstance(node, ast.ImportFrom) for alias in node.names}
+            for node in ast.walk(tree):
+                if isinstance(node, ast.FunctionDef):
+                    local = {word for part in ast.walk(node) if part is not node for word in bound(part)}
+                    self.assertEqual(local & there, set(), (name, node.name))
+
     def test_loops_do_not_change_what_they_go_over(self):
         changing = {"append", "extend", "insert", "pop", "remove", "clear", "update", "setdefault", "reverse", "sort"}
         for name, tree in trees():
