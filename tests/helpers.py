@@ -93,6 +93,10 @@ ODD_VALUES = (
     ("parts",), ("parts", ()), ("parts", (("free",),)), ("least", ()), ("least", (), -1), ("least", [], 0),
     ("least", (((), 0),), 0), ("least", ((1, 1),), 1), ("least", (), True), ("left",), ("left", [], ()), ("left", [()]),
     ("left", ((True,),)), ("left", 1), (((), 0, 1),), ((), 0, 1), (((), 0),), (((), -1, 0),), (((), True, False),),
+    ("between",), ("between", ()), ("between", [()]), ("between", ((True,),)), ("between", 1), ("met",), ("met", (), ()),
+    ("met", [("each", (1,))]), ("missed", (("each", [1]),)), ("met", ((["each"], (1,)),)), ("missed", "each"), ("done",),
+    ("done", ()), ("both", ("done",)), ("pick", 1), ("pick", True, ("done",)), ("broken", ()), ("broken", [], "open"),
+    ("broken", ((True,),), "open"), ("broken", (), "Open"), ("broken", (), True), ("broken", "open", ()),
 )
 
 

@@ -28,6 +28,12 @@ FUNCTIONS = {
                "brought_back(formula, steps, model)", "simplified(formula)", "left_holds(formula, claim, paper)"),
     "written": ("parity_clauses(literals, bit)", "at_most_clauses(literals, k, fresh)",
                 "at_least_clauses(literals, k, fresh)"),
+    "betweens": ("between(one, other)", "between_paper(one, other)", "between_holds(one, other, claim, paper)"),
+    "prefixes": ("is_met(formula, prefix)", "met_claim(formula, prefix)", "met_paper(formula, prefix)",
+                 "met_holds(formula, claim, paper)", "ways_to_meet(formula, prefix)"),
+    "turnings": ("is_turning(value, n)", "turned(turning, literals)", "keeps(formula, turning)", "turnings(formula)",
+                 "smaller_first(turning, fresh)", "broken(formula, rows)", "broken_claim(formula, rows)",
+                 "broken_paper(formula, rows)", "broken_holds(formula, claim, paper)"),
 }
 
 METHODS = {
