@@ -78,24 +78,36 @@ def cores_paper(formula):
 
 def core_paper(formula, places):
     """Some paper of the claim that places is a core."""
-    if not is_place_row(places, formula):
+    paper = core_shown(formula, places)
+    if paper is None:
         raise Undefined("core")
+    return paper
+
+
+def core_shown(formula, places):
+    """Some paper of the claim that places, which may be any value, is a core; None if it is none."""
+    if not is_place_row(places, formula):
+        return None
     _, refutation = searched(formula.only(places))
     opens = [searched(formula.only(fewer))[0] for fewer in one_less(places)]
-    if refutation is None or None in opens:
-        raise Undefined("core")
-    return refutation, tuple(opens)
+    return None if refutation is None or None in opens else (refutation, tuple(opens))
 
 
 def release_paper(formula, places):
     """Some paper of the claim that places is a release."""
-    if not is_place_row(places, formula):
+    paper = release_shown(formula, places)
+    if paper is None:
         raise Undefined("release")
+    return paper
+
+
+def release_shown(formula, places):
+    """Some paper of the claim that places, which may be any value, is a release; None if it is none."""
+    if not is_place_row(places, formula):
+        return None
     model, _ = searched(formula.only(others(formula, places)))
     refutations = [searched(formula.only(more))[1] for more in one_more(formula, places)]
-    if model is None or None in refutations:
-        raise Undefined("release")
-    return model, tuple(refutations)
+    return None if model is None or None in refutations else (model, tuple(refutations))
 
 
 def is_place_row(value, formula):

@@ -2,6 +2,9 @@
 
 FIGURES = "0123456789"
 MOST_FIGURES = 12
+# The figures of a piece of a long integer, and the number one above all such.
+PIECE_FIGURES = 18
+PIECE = 1000000000000000000
 
 
 def number_told(word):
@@ -21,3 +24,16 @@ def integer_told(word):
         return number_told(word)
     number = number_told(word[1:])
     return -number if number else None
+
+
+def integer_text(value):
+    """The figures of an integer of any size, "-" ahead if it is below 0."""
+    if value < 0:
+        return "-" + integer_text(-value)
+    # In pieces, for Python itself tells no integer of more than some thousand figures.
+    pieces = []
+    while value >= PIECE:
+        value, piece = divmod(value, PIECE)
+        pieces.append(str(piece).zfill(PIECE_FIGURES))
+    pieces.append(str(value))
+    return "".join(reversed(pieces))

@@ -1,6 +1,6 @@
 """Literals that are true in all models, and literals that are alike in all of them."""
 
-from clausehold.clauses import clause_of, is_clause, is_literal
+from clausehold.clauses import clause_of, is_clause, is_literal, variables_in
 from clausehold.errors import InvalidLiterals, Undefined
 from clausehold.kinds import is_plain, is_tuple_of
 from clausehold.models import is_model, models
@@ -37,7 +37,10 @@ def sought(formula):
     refutations = {}
     if model is None:
         return refutations, []
-    found = [model]
+    # What stands in no clause may as well have the other value.
+    there = variables_in(formula.clauses)
+    turned = tuple([x if abs(x) in there else -x for x in model])
+    found = [model] if turned == model else [model, turned]
     for literal in model:
         if any([-literal in seen for seen in found]):
             continue

@@ -23,11 +23,17 @@ def all_true(clauses, row):
 
 def models(formula):
     """All models, the last variable changing first, the positive literal ahead."""
+    return models_over(formula, tuple(range(1, formula.n + 1)))
+
+
+def models_over(formula, variables):
+    """All models in which each variable but these is true, in this order."""
     rows = [()] if () not in formula.clauses else []
     for v in range(1, formula.n + 1):
         # A clause is looked at as soon as its last variable has a value.
         ending = [clause for clause in formula.clauses if clause and abs(clause[-1]) == v]
-        longer = [row + (literal,) for row in rows for literal in (v, -v)]
+        values = (v, -v) if v in variables else (v,)
+        longer = [row + (literal,) for row in rows for literal in values]
         rows = [row for row in longer if all_true(ending, row)]
     return tuple(rows)
 

@@ -5,30 +5,34 @@ from clausehold.errors import InvalidWishes, Undefined
 from clausehold.formulas import Formula, are_rising_places
 from clausehold.hitting import bits_of, places_of
 from clausehold.kinds import is_plain, is_tuple_of, is_whole
-from clausehold.models import is_model, models
+from clausehold.models import is_model, models, models_over
 from clausehold.refutations import is_refutation
 from clausehold.search import searched
 
 
 def least_loss(formula, wishes):
     """The least loss of a model."""
-    return weighed(formula, wishes)[0]
+    found = unlike_models(formula, wishes)
+    if not found:
+        raise Undefined("model")
+    return lowest(found, wishes)
 
 
 def best_models(formula, wishes):
     """All models of the least loss."""
-    return weighed(formula, wishes)[1]
+    least = least_loss(formula, wishes)
+    return tuple([model for model in models(formula) if loss(wishes, model) == least])
 
 
 def least_claim(formula, wishes):
     """The claim that is true: the least loss, or that formula is shut."""
-    found = checked_models(formula, wishes)
+    found = unlike_models(formula, wishes)
     return ("least", wishes, lowest(found, wishes)) if found else ("shut", ())
 
 
 def least_paper(formula, wishes):
     """Some paper of the claim that is true."""
-    found = checked_models(formula, wishes)
+    found = unlike_models(formula, wishes)
     if not found:
         return searched(formula)[1]
     least = lowest(found, wishes)
@@ -37,20 +41,16 @@ def least_paper(formula, wishes):
     return best[0], loss_tree(formula, wishes, least, (), false)
 
 
-def checked_models(formula, wishes):
-    """All models, if these are wishes."""
+def unlike_models(formula, wishes):
+    """All models that are unlike in the variables of the clauses and wishes, if these are wishes."""
     if not are_wishes(wishes, formula.n):
         raise InvalidWishes(wishes)
-    return models(formula)
+    return models_over(formula, variables_with(formula, wishes))
 
 
-def weighed(formula, wishes):
-    """The pair of the least loss and all models of it."""
-    found = checked_models(formula, wishes)
-    if not found:
-        raise Undefined("model")
-    least = lowest(found, wishes)
-    return least, tuple([model for model in found if loss(wishes, model) == least])
+def variables_with(formula, wishes):
+    """The variables of the clauses and of the wishes, rising."""
+    return variables_in(formula.clauses + tuple([clause for clause, _ in wishes]))
 
 
 def are_wishes(value, n):
@@ -94,7 +94,7 @@ def first_unlike(formula, wishes, found):
     """The first variable of the clauses and wishes that is true in some of the models found and false in others; it is
     behind those by which these were chosen."""
     first = found[0][0]
-    for v in variables_in(formula.clauses + tuple([clause for clause, _ in wishes])):
+    for v in variables_with(formula, wishes):
         if any([first[v - 1] not in model for model, _ in found]):
             return v
     # Not come to: models that are alike in these lose the same wishes, whose weights show their loss.

@@ -45,7 +45,7 @@ class TestExamples(unittest.TestCase):
         self.assertGreaterEqual(len(list(examples())), EXAMPLES)
 
 
-EXAMPLES = 54
+EXAMPLES = 72
 
 
 if __name__ == "__main__":

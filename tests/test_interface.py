@@ -34,12 +34,22 @@ FUNCTIONS = {
     "turnings": ("is_turning(value, n)", "turned(turning, literals)", "keeps(formula, turning)", "turnings(formula)",
                  "smaller_first(turning, fresh)", "broken(formula, rows)", "broken_claim(formula, rows)",
                  "broken_paper(formula, rows)", "broken_holds(formula, claim, paper)"),
+    "claims": ("is_question(value, n)", "answer_of(formula, question)", "paper_of(formula, question)", "is_claim(value, n)",
+               "claim_holds(formula, claim, paper)", "refute(formula, claim)"),
+    "told": ("told(value)", "untold(text)"),
+    "desk": ("same_state(one, other)",),
+    "histories": ("paper_holds(text)", "paper_end(text)", "relived(text)"),
 }
 
 METHODS = {
     ("formulas", "Formula"): (
         "__init__(self, n, clauses)", "__eq__(self, other)", "__len__(self)", "__str__(self)",
         "with_clause(self, clause)", "without(self, place)", "only(self, places)", "under(self, literals)",
+    ),
+    ("desk", "Desk"): (
+        "__init__(self, n)", "formula(self)", "depth(self)", "assumed(self)", "here(self)", "deed(self, deed)",
+        "undo(self)", "redo(self)", "done(self)", "watch(self, question)", "leave(self, question)", "watched(self)",
+        "claim(self, question)", "paper_for(self, question)", "paper(self)",
     ),
 }
 
